@@ -1,0 +1,1 @@
+"""Lookdown: when a chooser may look down alone."""

@@ -1,0 +1,159 @@
+"""What can be seen at once of the rules for the files of the package."""
+
+import ast
+import builtins
+import pathlib
+import unittest
+
+FOLDER = pathlib.Path(__file__).resolve().parent.parent / "lookdown"
+BUILTINS = set(
+    "len range enumerate zip min max sum abs sorted reversed int str bool list tuple dict set isinstance ord repr "
+    "any all divmod ValueError".split()
+)
+METHODS = set(
+    "append clear copy count endswith extend find get index insert isalnum isalpha isdigit islower isspace isupper "
+    "items join keys ljust lower lstrip partition pop remove replace reverse rfind rjust rpartition rsplit rstrip "
+    "setdefault split splitlines startswith strip update upper values zfill bit_length isascii add discard".split()
+)
+NOT_USED = (
+    ast.GeneratorExp,
+    ast.Lambda,
+    ast.Global,
+    ast.Nonlocal,
+    ast.Try,
+    ast.With,
+    ast.Match,
+    ast.AsyncFunctionDef,
+    ast.Await,
+    ast.Yield,
+    ast.YieldFrom,
+    ast.Div,
+    ast.MatMult,
+    ast.AnnAssign,
+)
+
+
+def files():
+    return sorted(FOLDER.glob("*.py"))
+
+
+def trees():
+    return [(file.name, ast.parse(file.read_text())) for file in files()]
+
+
+def definitions(tree):
+    return [node for node in tree.body if isinstance(node, (ast.FunctionDef, ast.ClassDef))]
+
+
+def functions(tree):
+    return [node for node in ast.walk(tree) if isinstance(node, ast.FunctionDef)]
+
+
+def bound_names(function):
+    """The names of parameters and local variables."""
+    names = [node.arg for node in ast.walk(function) if isinstance(node, ast.arg)]
+    stored = [node for node in ast.walk(function) if isinstance(node, ast.Name) and isinstance(node.ctx, ast.Store)]
+    return names + [node.id for node in stored]
+
+
+class FormTest(unittest.TestCase):
+    def test_the_folder_holds_files_of_python_alone(self):
+        for file in FOLDER.iterdir():
+            self.assertTrue(file.suffix == ".py" or file.name == "__pycache__", file.name)
+            self.assertEqual(file.name, file.name.lower())
+
+    def test_signs_and_lines(self):
+        for file in files():
+            text = file.read_text()
+            self.assertTrue(all(sign == "\n" or " " <= sign <= "~" for sign in text), file.name)
+            lines = text.split("\n")
+            self.assertLess(len(lines), 400, file.name)
+            self.assertLessEqual(max(len(line) for line in lines), 120, file.name)
+
+    def test_functions_are_short(self):
+        for name, tree in trees():
+            for function in functions(tree):
+                self.assertLessEqual(function.end_lineno - function.lineno + 1, 40, (name, function.name))
+
+    def test_module_level(self):
+        kinds = (ast.ImportFrom, ast.FunctionDef, ast.ClassDef, ast.Assign)
+        for name, tree in trees():
+            self.assertIsNotNone(ast.get_docstring(tree), name)
+            for node in tree.body[1:]:
+                self.assertIsInstance(node, kinds, name)
+            for node in functions(tree):
+                self.assertEqual(node.decorator_list, [], name)
+
+    def test_imports(self):
+        defined = {name: [node.name for node in definitions(tree)] for name, tree in trees()}
+        imported = {}
+        for name, tree in trees():
+            imported[name] = []
+            for node in ast.walk(tree):
+                self.assertNotIsInstance(node, ast.Import, name)
+                if isinstance(node, ast.ImportFrom):
+                    package, _, file = node.module.partition(".")
+                    self.assertEqual((package, node.level), ("lookdown", 0), name)
+                    imported[name].append(file + ".py")
+                    for alias in node.names:
+                        self.assertIn(alias.name, defined[file + ".py"], name)
+                        self.assertIsNone(alias.asname, name)
+        while imported:
+            free = [name for name in imported if not any(each in imported for each in imported[name])]
+            self.assertNotEqual(free, [], "files import from each other")
+            for name in free:
+                del imported[name]
+
+    def test_each_name_is_bound_once(self):
+        for name, tree in trees():
+            bound = [node.name for node in definitions(tree)]
+            bound.extend(alias.name for node in tree.body if isinstance(node, ast.ImportFrom) for alias in node.names)
+            self.assertEqual(len(set(bound)), len(bound), name)
+            for function in functions(tree):
+                self.assertEqual(set(bound_names(function)) & set(bound), set(), (name, function.name))
+            for each in bound + [each for function in functions(tree) for each in bound_names(function)]:
+                self.assertFalse(hasattr(builtins, each), (name, each))
+
+    def test_what_is_not_used(self):
+        for name, tree in trees():
+            for node in ast.walk(tree):
+                self.assertNotIsInstance(node, NOT_USED, name)
+
+    def test_builtins(self):
+        for name, tree in trees():
+            for node in ast.walk(tree):
+                if isinstance(node, ast.Name) and hasattr(builtins, node.id):
+                    self.assertIn(node.id, BUILTINS, name)
+
+    def test_methods_that_are_called(self):
+        for name, tree in trees():
+            for node in ast.walk(tree):
+                if isinstance(node, ast.Call) and isinstance(node.func, ast.Attribute):
+                    self.assertIn(node.func.attr, METHODS, name)
+
+    def test_constants(self):
+        for name, tree in trees():
+            for node in ast.walk(tree):
+                if isinstance(node, ast.Constant):
+                    self.assertNotIsInstance(node.value, (float, complex), name)
+                    if isinstance(node.value, str):
+                        self.assertNotIn("%", node.value, name)
+
+    def test_sameness_is_asked_of_none_alone(self):
+        for name, tree in trees():
+            for node in ast.walk(tree):
+                if isinstance(node, ast.Compare):
+                    for sign, right in zip(node.ops, node.comparators):
+                        if isinstance(sign, (ast.Is, ast.IsNot)):
+                            self.assertTrue(isinstance(right, ast.Constant) and right.value is None, name)
+
+    def test_calls_pass_what_is_taken(self):
+        for name, tree in trees():
+            counts = {node.name: len(node.args.args) for node in tree.body if isinstance(node, ast.FunctionDef)}
+            for node in ast.walk(tree):
+                if isinstance(node, ast.Call) and isinstance(node.func, ast.Name) and node.func.id in counts:
+                    self.assertEqual((len(node.args), node.keywords), (counts[node.func.id], []), name)
+
+
+if __name__ == "__main__":
+    unittest.main()
