@@ -1,0 +1,47 @@
+"""The names and arguments that the interface lists, each defined in its own file."""
+
+import importlib
+import inspect
+import unittest
+
+INTERFACE = {
+    "books": {"Book": "arities kinds rules moves"},
+    "webs": {
+        "Web": "values",
+        "fits": "book web",
+        "below": "web value",
+        "part_web": "web value",
+        "unfolded": "web value",
+        "folded": "web",
+        "beside": "web other",
+    },
+    "texts": {"book_text": "book", "web_text": "web", "read_book": "text", "read_web": "text"},
+    "things": {"ways": "book web thing", "needs": "book web thing way", "makeable": "book web"},
+    "plans": {
+        "is_plan": "book web wishes thing",
+        "price": "book web plan",
+        "needless": "book web wishes plan",
+        "orders": "book web plan",
+    },
+    "searching": {"cheapest": "book web wishes"},
+}
+
+
+class InterfaceTest(unittest.TestCase):
+    def test_names_and_arguments(self):
+        for file, names in INTERFACE.items():
+            module = importlib.import_module("lookdown." + file)
+            for name, arguments in names.items():
+                found = getattr(module, name)
+                self.assertEqual(found.__module__, "lookdown." + file)
+                self.assertEqual(list(inspect.signature(found).parameters), arguments.split(), name)
+
+    def test_classes_compare_by_methods_of_their_own(self):
+        for file, name in [("books", "Book"), ("webs", "Web")]:
+            found = getattr(importlib.import_module("lookdown." + file), name)
+            self.assertIn("__init__", vars(found))
+            self.assertIn("__eq__", vars(found))
+
+
+if __name__ == "__main__":
+    unittest.main()
