@@ -65,11 +65,17 @@ def _masks_ahead(book, web, plan):
 
 def is_wishes(book, web, thing):
     """Whether a thing is a lot of makeable things."""
-    if not (isinstance(thing, tuple) and all([is_thing(book, web, wish) for wish in thing])):
-        return False
     made = {each: True for each in makeable(book, web)}
-    ascending = all([thing[at] < thing[at + 1] for at in range(len(thing) - 1)])
-    return ascending and all_in(made, thing)
+    return is_lot_of(book, web, made, thing)
+
+
+def is_lot_of(book, web, made, thing):
+    """Whether a thing is a lot of things that are in the dict of what is made."""
+    return (
+        isinstance(thing, tuple)
+        and all([is_thing(book, web, each) and each in made for each in thing])
+        and all([thing[at] < thing[at + 1] for at in range(len(thing) - 1)])
+    )
 
 
 def check_wishes(book, web, wishes):

@@ -1,9 +1,11 @@
 """Books, webs and strange objects that several tests use."""
 
+import itertools
 import random
 
 from lookdown.books import Book
 from lookdown.errors import NoWeb
+from lookdown.things import makeable, needs, ways
 from lookdown.webs import Web
 
 CHAIN = Book(
@@ -29,6 +31,31 @@ MOVING = Book(
     ((0, 1, 1), (1, 0, 1), (2, 3, 1), (3, 2, 1)),
 )
 SHARED = Web(((0, ()), (0, ()), (1, (0, 0)), (1, (0, 2)), (2, (3,))))
+
+# The choice by own ways.
+STEPS_OWN = {
+    (0, 0): ("rule", 0),
+    (0, 1): ("rule", 1),
+    (1, 0): ("rule", 2),
+    (1, 1): ("rule", 3),
+    (2, 2): ("rule", 4),
+}
+
+# The same value can be used from one kind for all, which is dear alone and cheap together.
+TWICE = Book((0, 2), 2, ((0, (), 0, 10), (0, (), 1, 4), (1, (0, 0), 0, 5), (1, (0, 1), 0, 8)), ())
+PAIR = Web(((0, ()), (1, (0, 0))))
+
+# What is made of three rules of one price that come to the same, if kind 1 is moved to.
+ALIKE = Book(
+    (0, 2),
+    2,
+    ((0, (), 0, 1), (1, (1, 1), 0, 3), (1, (1, 0), 0, 3), (1, (0, 1), 0, 3), (1, (0, 0), 1, 9)),
+    ((0, 1, 1),),
+)
+
+# Each value of op 1 uses the one ahead twice.
+DOUBLING = Book((0, 2), 1, ((0, (), 0, 1), (1, (0, 0), 0, 1)), ())
+DOUBLES = Web(((0, ()),) + tuple((1, (k, k)) for k in range(199)))
 
 EMPTY_BOOK = Book((0,), 1, (), ())
 EMPTY_WEB = Web(())
@@ -132,3 +159,40 @@ def random_web(seed, book, many):
         op = dice.choice(ops)
         rows.append((op, tuple(dice.randrange(index) for _ in range(book.arities[op]))))
     return Web(tuple(rows))
+
+
+def usable(book, web, thing):
+    """The ways that give a thing of makeable ones."""
+    made = set(makeable(book, web))
+    return [way for way in ways(book, web, thing) if made.issuperset(needs(book, web, thing, way))]
+
+
+def all_needed(book, web, choice, thing, behind=()):
+    """The set of all that is needed by a thing; None if one comes back to something on the way."""
+    if thing in behind:
+        return None
+    found = {thing}
+    for need in needs(book, web, thing, choice[thing]):
+        further = all_needed(book, web, choice, need, (*behind, thing))
+        if further is None:
+            return None
+        found |= further
+    return found
+
+
+def all_choices(book, web, most):
+    """All choices for a web, or none at all if more than so many dicts of usable ways are to be tried."""
+    things = makeable(book, web)
+    options = [usable(book, web, thing) for thing in things]
+    many = 1
+    for option in options:
+        many *= len(option)
+    if many > most:
+        return []
+    tried = [dict(zip(things, told)) for told in itertools.product(*options)]
+    return [choice for choice in tried if all(all_needed(book, web, choice, thing) is not None for thing in things)]
+
+
+def all_lots(things):
+    """All lots of some of the things, the smaller ones first."""
+    return [lot for many in range(len(things) + 1) for lot in itertools.combinations(sorted(things), many)]

@@ -15,6 +15,7 @@ METHODS = set(
     "items join keys ljust lower lstrip partition pop remove replace reverse rfind rjust rpartition rsplit rstrip "
     "setdefault split splitlines startswith strip update upper values zfill bit_length isascii add discard".split()
 )
+LIBRARY = {"math": {"gcd", "lcm"}}
 NOT_USED = (
     ast.GeneratorExp,
     ast.Lambda,
@@ -47,6 +48,11 @@ def definitions(tree):
 
 def functions(tree):
     return [node for node in ast.walk(tree) if isinstance(node, ast.FunctionDef)]
+
+
+def methods(tree):
+    classes = [node for node in tree.body if isinstance(node, ast.ClassDef)]
+    return [node for each in classes for node in each.body if isinstance(node, ast.FunctionDef)]
 
 
 def bound_names(function):
@@ -91,7 +97,12 @@ class FormTest(unittest.TestCase):
             imported[name] = []
             for node in ast.walk(tree):
                 self.assertNotIsInstance(node, ast.Import, name)
-                if isinstance(node, ast.ImportFrom):
+                if isinstance(node, ast.ImportFrom) and node.module in LIBRARY:
+                    self.assertEqual(node.level, 0, name)
+                    for alias in node.names:
+                        self.assertIn(alias.name, LIBRARY[node.module], name)
+                        self.assertIsNone(alias.asname, name)
+                elif isinstance(node, ast.ImportFrom):
                     package, _, file = node.module.partition(".")
                     self.assertEqual((package, node.level), ("lookdown", 0), name)
                     imported[name].append(file + ".py")
@@ -126,10 +137,24 @@ class FormTest(unittest.TestCase):
                     self.assertIn(node.id, BUILTINS, name)
 
     def test_methods_that_are_called(self):
+        own = {node.name for _, tree in trees() for node in methods(tree)}
+        self.assertEqual(own & METHODS, set())
         for name, tree in trees():
             for node in ast.walk(tree):
                 if isinstance(node, ast.Call) and isinstance(node.func, ast.Attribute):
-                    self.assertIn(node.func.attr, METHODS, name)
+                    self.assertIn(node.func.attr, METHODS | own, name)
+
+    def test_names_of_methods_and_attributes(self):
+        for name, tree in trees():
+            assigned = {
+                node.attr
+                for node in ast.walk(tree)
+                if isinstance(node, ast.Attribute) and isinstance(node.ctx, ast.Store)
+            }
+            self.assertEqual(assigned & {node.name for node in methods(tree)}, set(), name)
+            for node in methods(tree):
+                for kind in (str, bytes, int, list, tuple, dict, set):
+                    self.assertTrue(node.name.startswith("__") or not hasattr(kind, node.name), (name, node.name))
 
     def test_constants(self):
         for name, tree in trees():

@@ -24,6 +24,21 @@ INTERFACE = {
         "orders": "book web plan",
     },
     "searching": {"cheapest": "book web wishes"},
+    "choices": {
+        "is_choice": "book web thing",
+        "needed": "book web choice things",
+        "plan_by": "book web choice wishes",
+        "cost": "book web choice wishes",
+        "chosen": "book web chooser",
+    },
+    "alone": {"alone": "book web", "own": "book web"},
+    "judging": {
+        "extras": "book web choice",
+        "undercut": "book web choice",
+        "is_best": "book web thing",
+        "beaten": "book web choice",
+    },
+    "fences": {"is_fences": "book web thing", "floor": "book web fences wishes", "fences_of": "book web choice"},
 }
 
 
