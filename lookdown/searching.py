@@ -9,40 +9,45 @@ from lookdown.webs import below
 def cheapest(book, web, wishes):
     """The pair of the least price of a plan for wishes and such a plan."""
     check_wishes(book, web, wishes)
-    things = things_below(book, web, wishes)
-    if len(things) > 14:
-        raise TooMany(14)
-    bits = {thing: 1 << at for at, thing in enumerate(things)}
-    options = [_options(book, web, thing, bits) for thing in things]
-    prices, lasts = _least_prices(options)
-    wanted = sum([bits[wish] for wish in wishes])
-    made = _least_mask(prices, wanted)
+    things = things_below(book, web, wishes, 14)
+    prices, lasts = least_prices(book, web, things)
+    made = _least_mask(prices, mask_of(things, wishes))
     return (prices[made], _plan_of(things, lasts, made))
 
 
-def things_below(book, web, wishes):
-    """The makeable things of the values that those of the wishes are made of."""
+def things_below(book, web, wishes, most):
+    """The makeable things of the values that those of the wishes are made of: at most so many."""
     values = {}
     for value, _ in wishes:
         for each in below(web, value):
             values[each] = True
-    return [thing for thing in makeable(book, web) if thing[0] in values]
+    things = [thing for thing in makeable(book, web) if thing[0] in values]
+    if len(things) > most:
+        raise TooMany(most)
+    return things
 
 
-def _options(book, web, thing, bits):
+def mask_of(things, some):
+    """The mask with a bit for each of some of the things, by their places."""
+    return sum([1 << things.index(thing) for thing in some])
+
+
+def _options(book, web, things, thing):
     """The usable ways of a thing, the cheapest first: triples of price, mask of what it needs, way."""
     found = []
-    for way in usable_ways(book, web, thing, bits):
-        mask = sum([bits[need] for need in needs_for(book, web, thing, way)])
+    for way in usable_ways(book, web, thing, things):
+        mask = mask_of(things, needs_for(book, web, thing, way))
         found.append((way_price(book, way), mask, way))
     return sorted(found)
 
 
-def _least_prices(options):
+def least_prices(book, web, things):
     """For each mask of things the least price of making just these, and the last making then.
 
-    The price is None where no row of makings makes just these.
+    The things are all makeable ones of some values and of all that these are made of. The
+    price is None where no row of makings makes just these.
     """
+    options = [_options(book, web, things, thing) for thing in things]
     size = 1 << len(options)
     prices = [0] + [None] * (size - 1)
     lasts = [None] * size

@@ -1,6 +1,6 @@
 """Things of a web and a book, the ways that give them and what these need."""
 
-from lookdown.checks import is_between, is_integer, is_tuple_of
+from lookdown.checks import is_between, is_tuple_of
 from lookdown.errors import NoThing, NoWay
 from lookdown.webs import check_web
 
@@ -63,15 +63,22 @@ def _check_thing(book, web, thing):
         raise NoThing()
 
 
-def is_way_to(book, web, target, thing):
-    """Whether a thing is a way that gives the target."""
-    # The parts are looked at first, for True would else pass as 1.
+def is_way(book, thing):
+    """Whether a thing is a way of the book."""
+    # The number is looked at by itself, for True would else pass as 1.
     return (
         is_tuple_of(2, 2, thing)
         and isinstance(thing[0], str)
-        and is_integer(thing[1])
-        and thing in ways_to(book, web, target)
+        and (
+            (thing[0] == "rule" and is_between(0, len(book.rules) - 1, thing[1]))
+            or (thing[0] == "move" and is_between(0, len(book.moves) - 1, thing[1]))
+        )
     )
+
+
+def is_way_to(book, web, target, thing):
+    """Whether a thing is a way that gives the target."""
+    return is_way(book, thing) and thing in ways_to(book, web, target)
 
 
 def ways_to(book, web, thing):
@@ -96,12 +103,12 @@ def needs_for(book, web, thing, way):
 
 
 def usable_ways(book, web, thing, made):
-    """The ascending list of the ways to a thing all of whose needs are in a dict of things."""
+    """The ascending list of the ways to a thing all of whose needs are among what is made."""
     return [way for way in ways_to(book, web, thing) if all_in(made, needs_for(book, web, thing, way))]
 
 
 def all_in(made, things):
-    """Whether all things are in a dict of things."""
+    """Whether all things are among what is made."""
     return all([thing in made for thing in things])
 
 

@@ -39,6 +39,10 @@ INTERFACE = {
         "beaten": "book web choice",
     },
     "fences": {"is_fences": "book web thing", "floor": "book web fences wishes", "fences_of": "book web choice"},
+    "finding": {"best": "book web", "stand_ins": "book web choice"},
+    "prices": {"price_range": "book web choice way"},
+    "sharing": {"shares": "book web choice wishes", "leavers": "book web choice wishes"},
+    "standings": {"standings": "book", "labels": "book web"},
 }
 
 
