@@ -20,10 +20,10 @@ def best(book, web):
 def _only_candidate(book, web):
     """The choice that is the best one if there is any.
 
-    A best choice is cheapest for each thing as the only wish, so its way comes to the least
-    sum with all that it needs. If another way comes to this sum, too, it undercuts the one
-    taken unless that one needs all that it needs, and so has no greater price of its own.
-    So one of the least price is taken; of these, none undercuts another only if all need the same.
+    A best choice is cheapest for each thing as the only wish, so the way taken comes to the
+    least sum with all that it needs. Another way to this sum is undercut unless all that it
+    needs is needed by the way taken, too, whose own price is then not the greater one. So a
+    way of the least price is taken, and others of this price are undercut or need the same.
     """
     ledger = Ledger()
     choice = {}
