@@ -63,7 +63,7 @@ def _is_rule(arities, kinds, thing):
         and is_tuple_of(arities[op], arities[op], sources)
         and all([is_between(0, kinds - 1, source) for source in sources])
         and is_between(0, kinds - 1, kind)
-        and _is_price(cost)
+        and is_price(cost)
     )
 
 
@@ -75,9 +75,10 @@ def _is_move(kinds, thing):
         is_between(0, kinds - 1, source)
         and is_between(0, kinds - 1, kind)
         and source != kind
-        and _is_price(cost)
+        and is_price(cost)
     )
 
 
-def _is_price(thing):
+def is_price(thing):
+    """Whether a thing is what a rule or a move can cost."""
     return is_between(1, 1000, thing)

@@ -15,14 +15,14 @@ def is_plan(book, web, wishes, thing):
 def price(book, web, plan):
     """The sum of the prices of the ways of a plan."""
     check_web(book, web)
-    _check_plan(book, web, (), plan)
+    check_plan(book, web, (), plan)
     return sum([way_price(book, way) for _, _, way in plan])
 
 
 def needless(book, web, wishes, plan):
     """The ascending list of the makings of a plan that the wishes do not call for."""
     check_wishes(book, web, wishes)
-    _check_plan(book, web, wishes, plan)
+    check_plan(book, web, wishes, plan)
     called_for = {wish: True for wish in wishes}
     unused = []
     # What a making is needed by stands behind it, so the walk goes from the end.
@@ -39,10 +39,10 @@ def needless(book, web, wishes, plan):
 def orders(book, web, plan):
     """In how many orders the makings of a plan are a plan."""
     check_web(book, web)
-    _check_plan(book, web, (), plan)
+    check_plan(book, web, (), plan)
     if len(plan) > 12:
         raise TooMany(12)
-    ahead = _masks_ahead(book, web, plan)
+    ahead = masks_ahead(book, web, plan)
     # counts[done]: in how many orders just the makings of this mask can come first.
     counts = [1] + [0] * ((1 << len(plan)) - 1)
     for done in range(len(counts)):
@@ -52,7 +52,7 @@ def orders(book, web, plan):
     return counts[-1]
 
 
-def _masks_ahead(book, web, plan):
+def masks_ahead(book, web, plan):
     """For each making the mask of the makings that give what it needs."""
     bits = {}
     masks = []
@@ -85,7 +85,7 @@ def check_wishes(book, web, wishes):
         raise NoWishes()
 
 
-def _check_plan(book, web, wishes, plan):
+def check_plan(book, web, wishes, plan):
     if not _is_plan_for(book, web, wishes, plan):
         raise NoPlan()
 
@@ -96,7 +96,7 @@ def _is_plan_for(book, web, wishes, thing):
         return False
     made = {}
     for making in thing:
-        if not _is_making(book, web, making):
+        if not is_making(book, web, making):
             return False
         target = making[:2]
         if target in made or not all_in(made, needs_for(book, web, target, making[2])):
@@ -105,7 +105,7 @@ def _is_plan_for(book, web, wishes, thing):
     return all_in(made, wishes)
 
 
-def _is_making(book, web, thing):
+def is_making(book, web, thing):
     return (
         is_tuple_of(3, 3, thing)
         and is_thing(book, web, thing[:2])

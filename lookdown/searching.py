@@ -32,7 +32,7 @@ def mask_of(things, some):
     return sum([1 << things.index(thing) for thing in some])
 
 
-def _options(book, web, things, thing):
+def options_of(book, web, things, thing):
     """The usable ways of a thing, the cheapest first: triples of price, mask of what it needs, way."""
     found = []
     for way in usable_ways(book, web, thing, things):
@@ -47,14 +47,14 @@ def least_prices(book, web, things):
     The things are all makeable ones of some values and of all that these are made of. The
     price is None where no row of makings makes just these.
     """
-    options = [_options(book, web, things, thing) for thing in things]
+    options = [options_of(book, web, things, thing) for thing in things]
     size = 1 << len(options)
     prices = [0] + [None] * (size - 1)
     lasts = [None] * size
     # A making adds a bit, so a mask is done with before a greater one is come to.
     for made in range(size):
         if prices[made] is not None:
-            for at, cost, way in _next_makings(options, made):
+            for at, cost, way in next_makings(options, made):
                 grown = made | (1 << at)
                 if prices[grown] is None or prices[made] + cost < prices[grown]:
                     prices[grown] = prices[made] + cost
@@ -62,7 +62,7 @@ def least_prices(book, web, things):
     return (prices, lasts)
 
 
-def _next_makings(options, made):
+def next_makings(options, made):
     """For each thing that can be made next its number, the price and the cheapest way."""
     found = []
     for at, ways_here in enumerate(options):

@@ -29,7 +29,7 @@ def standings_table(book):
     while fresh:
         before = len(found)
         for op, parts in fresh:
-            standing = _standing(book, op, [found[part] for part in parts])
+            standing = standing_of(book, op, [found[part] for part in parts])
             if standing not in numbers:
                 numbers[standing] = len(found)
                 found.append(standing)
@@ -40,7 +40,7 @@ def standings_table(book):
     return (found, table)
 
 
-def _standing(book, op, parts):
+def standing_of(book, op, parts):
     """The standing of a value with this op and parts of these standings."""
     prices, ways = own_row(book, op, [gaps for gaps, _ in parts])
     least = min([price for price in prices if price is not None], default=0)

@@ -1,26 +1,27 @@
 """Books and webs as texts, there and back."""
 
 from lookdown.books import Book
-from lookdown.errors import BadText
+from lookdown.errors import BadText, NoText
 from lookdown.webs import Web
 
 
 def book_text(book):
     """The text of a book: its ops, its kinds, its rules, its moves."""
-    lines = [_line(["ops", *book.arities]), _line(["kinds", book.kinds])]
+    lines = [line_of(["ops", *book.arities]), line_of(["kinds", book.kinds])]
     for op, sources, kind, cost in book.rules:
-        lines.append(_line(["rule", op, kind, cost, *sources]))
+        lines.append(line_of(["rule", op, kind, cost, *sources]))
     for source, kind, cost in book.moves:
-        lines.append(_line(["move", source, kind, cost]))
+        lines.append(line_of(["move", source, kind, cost]))
     return "\n".join(lines)
 
 
 def web_text(web):
     """The text of a web: a line for each value."""
-    return "\n".join([_line([op, *parts]) for op, parts in web.rows])
+    return "\n".join([line_of([op, *parts]) for op, parts in web.rows])
 
 
-def _line(words):
+def line_of(words):
+    """The line of some words and numbers."""
     return " ".join([str(word) for word in words])
 
 
@@ -28,18 +29,22 @@ def read_book(text):
     """The Book that a text tells."""
     if not isinstance(text, str):
         raise BadText(0)
-    lines = text.split("\n")
-    arities = _numbers_behind("ops", lines[0])
+    return Book(*book_parts(text.split("\n")))
+
+
+def book_parts(lines):
+    """What a Book is made of, as some lines tell it, the first of which is there."""
+    arities = numbers_behind("ops", lines[0])
     if arities is None:
         raise BadText(1)
     # A lacking second line is told like a wrong one: by its number.
-    counted = _numbers_behind("kinds", lines[1]) if len(lines) > 1 else None
+    counted = numbers_behind("kinds", lines[1]) if len(lines) > 1 else None
     if counted is None or len(counted) != 1:
         raise BadText(2)
     first_move = _first_move(lines)
     rules = [_rule(lines[at], at + 1) for at in range(2, first_move)]
     moves = [_move(lines[at], at + 1) for at in range(first_move, len(lines))]
-    return Book(arities, counted[0], tuple(rules), tuple(moves))
+    return (arities, counted[0], tuple(rules), tuple(moves))
 
 
 def _first_move(lines):
@@ -51,7 +56,7 @@ def _first_move(lines):
 
 
 def _rule(line, number):
-    told = _numbers_behind("rule", line)
+    told = numbers_behind("rule", line)
     if told is None or len(told) < 3:
         raise BadText(number)
     op, kind, cost = told[:3]
@@ -59,7 +64,7 @@ def _rule(line, number):
 
 
 def _move(line, number):
-    told = _numbers_behind("move", line)
+    told = numbers_behind("move", line)
     if told is None or len(told) != 3:
         raise BadText(number)
     return told
@@ -72,26 +77,33 @@ def read_web(text):
     lines = text.split("\n") if text != "" else []
     values = []
     for at, line in enumerate(lines):
-        told = _numbers(line.split(" "))
+        told = numbers_of(line.split(" "))
         if told is None:
             raise BadText(at + 1)
         values.append((told[0], told[1:]))
     return Web(tuple(values))
 
 
-def _numbers_behind(word, line):
+def numbers_behind(word, line):
     """The numbers behind the first word of a line, None if it is not written so."""
     words = line.split(" ")
     if words[0] != word:
         return None
-    return _numbers(words[1:])
+    return numbers_of(words[1:])
 
 
-def _numbers(words):
+def numbers_of(words):
     """The numbers that the words tell, None if some word is no number."""
     if not all([_is_number(word) for word in words]):
         return None
     return tuple([int(word) for word in words])
+
+
+def whole_lines(journal):
+    """The list of the lines of a journal that a line feed closes."""
+    if not isinstance(journal, str):
+        raise NoText()
+    return journal.split("\n")[:-1]
 
 
 def _is_number(word):

@@ -1,7 +1,8 @@
 """Things of a web and a book, the ways that give them and what these need."""
 
+from lookdown.books import Book, is_price
 from lookdown.checks import is_between, is_tuple_of
-from lookdown.errors import NoThing, NoWay
+from lookdown.errors import NoNumber, NoThing, NoWay
 from lookdown.webs import check_web
 
 
@@ -92,14 +93,17 @@ def ways_to(book, web, thing):
 
 def needs_for(book, web, thing, way):
     """As needs, of what is known to be a thing and a way that gives it."""
+    needed_once = {need: True for need in needs_by_parts(book, web, thing, way)}
+    return tuple(sorted(needed_once))
+
+
+def needs_by_parts(book, web, thing, way):
+    """The list of what a way needs: a thing for each part of a rule, perhaps twice the same, or one for a move."""
     value = thing[0]
     word, k = way
     if word == "move":
-        return ((value, book.moves[k][0]),)
-    parts = web.rows[value][1]
-    sources = book.rules[k][1]
-    needed_once = {need: True for need in zip(parts, sources)}
-    return tuple(sorted(needed_once))
+        return [(value, book.moves[k][0])]
+    return list(zip(web.rows[value][1], book.rules[k][1]))
 
 
 def usable_ways(book, web, thing, made):
@@ -118,3 +122,19 @@ def way_price(book, way):
     if word == "move":
         return book.moves[k][2]
     return book.rules[k][3]
+
+
+def repriced(book, way, price):
+    """The Book in which a way has another price: NoWay, then NoNumber for what is no price."""
+    if not is_way(book, way):
+        raise NoWay()
+    if not is_price(price):
+        raise NoNumber()
+    word, k = way
+    rules = list(book.rules)
+    moves = list(book.moves)
+    if word == "move":
+        moves[k] = (*moves[k][:2], price)
+    else:
+        rules[k] = (*rules[k][:3], price)
+    return Book(book.arities, book.kinds, tuple(rules), tuple(moves))

@@ -53,6 +53,11 @@ def _is_row_of(book, op, parts):
     return op < len(book.arities) and book.arities[op] == len(parts)
 
 
+def is_value_of(book, index, thing):
+    """Whether a thing can stand as the value of this number in a web of the book."""
+    return _is_value(index, thing) and _is_row_of(book, thing[0], thing[1])
+
+
 def check_web(book, web):
     """Raise NoWeb for what is no web of the book."""
     if not fits(book, web):
@@ -98,7 +103,7 @@ def unfolded(web, value):
         rows = []
         tops = []
         for part in parts:
-            rows = rows + _moved(trees[part], len(rows))
+            rows = rows + moved(trees[part], len(rows))
             tops.append(len(rows) - 1)
         trees[each] = rows + [(op, tuple(tops))]
     return web_of_rows(trees[value])
@@ -113,7 +118,7 @@ def _unfolded_size(web, values):
     return sizes[values[-1]]
 
 
-def _moved(rows, by):
+def moved(rows, by):
     """Rows whose values are numbered from by on."""
     return [(op, tuple([part + by for part in parts])) for op, parts in rows]
 
@@ -132,4 +137,4 @@ def folded(web):
 
 def beside(web, other):
     """The Web of both, the other one's values behind."""
-    return web_of_rows(list(web.rows) + _moved(other.rows, len(web.rows)))
+    return web_of_rows(list(web.rows) + moved(other.rows, len(web.rows)))

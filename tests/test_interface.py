@@ -43,6 +43,36 @@ INTERFACE = {
     "prices": {"price_range": "book web choice way"},
     "sharing": {"shares": "book web choice wishes", "leavers": "book web choice wishes"},
     "standings": {"standings": "book", "labels": "book web"},
+    "verdicts": {"wides": "book", "verdict": "book", "failing": "book"},
+    "programs": {
+        "Program": "book meanings hand test blocks",
+        "plain": "program inputs most",
+        "web_of": "program block",
+        "wishes_of": "program block",
+    },
+    "codes": {"code_of": "program choices", "cells_of": "code", "ran": "program choices inputs most"},
+    "bench": {"Bench": "book", "replayed": "book journal"},
+}
+METHODS = {
+    ("bench", "Bench"): {
+        "put": "op parts",
+        "turn": "value op parts",
+        "wish": "thing",
+        "drop": "thing",
+        "reprice": "way price",
+        "undo": "",
+        "redo": "",
+        "web": "",
+        "book_now": "",
+        "wishes": "",
+        "gaps": "value",
+        "own_ways": "value",
+        "total": "",
+        "undercut": "",
+        "looked": "",
+        "copy": "",
+        "journal": "",
+    },
 }
 
 
@@ -55,8 +85,14 @@ class InterfaceTest(unittest.TestCase):
                 self.assertEqual(found.__module__, "lookdown." + file)
                 self.assertEqual(list(inspect.signature(found).parameters), arguments.split(), name)
 
+    def test_methods_of_classes(self):
+        for (file, name), told in METHODS.items():
+            found = vars(getattr(importlib.import_module("lookdown." + file), name))
+            for method, arguments in told.items():
+                self.assertEqual(list(inspect.signature(found[method]).parameters), ["self", *arguments.split()], method)
+
     def test_classes_compare_by_methods_of_their_own(self):
-        for file, name in [("books", "Book"), ("webs", "Web")]:
+        for file, name in [("books", "Book"), ("webs", "Web"), ("programs", "Program")]:
             found = getattr(importlib.import_module("lookdown." + file), name)
             self.assertIn("__init__", vars(found))
             self.assertIn("__eq__", vars(found))
