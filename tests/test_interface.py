@@ -52,6 +52,19 @@ INTERFACE = {
     },
     "codes": {"code_of": "program choices", "cells_of": "code", "ran": "program choices inputs most"},
     "bench": {"Bench": "book", "replayed": "book journal"},
+    "programtexts": {"program_text": "program", "read_program": "text"},
+    "scripts": {
+        "is_script": "book web wishes limits thing",
+        "script_price": "book web limits script",
+        "held": "book web limits script",
+    },
+    "tight": {
+        "tight": "book web wishes limits",
+        "least_limit": "book web wishes kind",
+        "free_limit": "book web wishes kind",
+        "fewest_held": "book web wishes plan",
+    },
+    "workshop": {"Workshop": "program", "relived": "program journal"},
 }
 METHODS = {
     ("bench", "Bench"): {
@@ -70,6 +83,20 @@ METHODS = {
         "total": "",
         "undercut": "",
         "looked": "",
+        "copy": "",
+        "journal": "",
+    },
+    ("workshop", "Workshop"): {
+        "start": "inputs",
+        "step": "",
+        "go": "many",
+        "stand": "",
+        "paid": "",
+        "turn": "block values end",
+        "reprice": "way price",
+        "undo": "",
+        "program_now": "",
+        "worked": "",
         "copy": "",
         "journal": "",
     },

@@ -59,21 +59,27 @@ def with_block(number, block):
     return TIMES_BLOCKS[:number] + (block,) + TIMES_BLOCKS[number + 1:]
 
 
+def word_of(meaning, of_parts, handed):
+    """The word of a value, by the words of the document."""
+    word, *more = meaning
+    if word in ("num", "place"):
+        return more[0] if word == "num" else handed[more[0]]
+    if word in ("not", "half"):
+        return 65535 - of_parts[0] if word == "not" else of_parts[0] // 2
+    first, second = of_parts
+    return {
+        "sum": (first + second) % 65536,
+        "minus": (first - second) % 65536,
+        "times": (first * second) % 65536,
+        "less": int(first < second),
+    }[word]
+
+
 def words_of(told, block, handed):
-    """The words of all values of a block, by the words of the document."""
+    """The words of all values of a block."""
     found = []
     for op, parts in told.blocks[block][1]:
-        word, *more = told.meanings[op]
-        of_parts = [found[part] for part in parts]
-        if word in ("num", "place"):
-            found.append(more[0] if word == "num" else handed[more[0]])
-        elif word in ("not", "half"):
-            found.append(65535 - of_parts[0] if word == "not" else of_parts[0] // 2)
-        elif word == "less":
-            found.append(int(of_parts[0] < of_parts[1]))
-        else:
-            signs = {"sum": of_parts[0] + of_parts[1], "minus": of_parts[0] - of_parts[1], "times": of_parts[0] * of_parts[1]}
-            found.append(signs[word] % 65536)
+        found.append(word_of(told.meanings[op], [found[part] for part in parts], handed))
     return found
 
 
