@@ -20,7 +20,10 @@ class Link:
 
 
 class Claim:
-    """A usable way of a kind, at a top and parts of some standings, and what its extra hangs on."""
+    """A way of a kind, at a top and parts of some standings, and what its extra hangs on.
+
+    The lot holds a triple for each part. A rule is usable just if there are all these triples.
+    """
 
     def __init__(self, place, price, lot):
         # The tuple (op, parts, kind, way).
@@ -128,7 +131,7 @@ def _links(book, found, table):
 
 
 def _claims(book, found, table):
-    """The list of the Claims of all usable ways, their places ascending."""
+    """The list of the Claims of all rules and usable moves, their places ascending."""
     claims = []
     for op, parts in sorted(table):
         ways = found[table[(op, parts)]][1]
@@ -139,22 +142,17 @@ def _claims(book, found, table):
                     price, pairs = _beyond(book, ways, kind, passed, sources)
                     claims.append(Claim((op, parts, kind, ("move", k)), price, _triples(parts, pairs)))
             for k, (rule_op, sources, given, _) in enumerate(book.rules):
-                if (rule_op, given) == (op, kind) and _are_made(found, parts, sources):
+                if (rule_op, given) == (op, kind):
                     price, pairs = _beyond(book, ways, kind, [], sources)
                     claims.append(Claim((op, parts, kind, ("rule", k)), price, _triples(parts, pairs)))
     return claims
 
 
-def _are_made(found, parts, sources):
-    """Whether parts of these standings are all makeable in these kinds."""
-    return all([found[part][1][source] is not None for part, source in zip(parts, sources)])
-
-
 def _first_undercut(book, claims, widest):
     """The first Claim whose greatest extra is more than the way's price, or None.
 
-    widest leads from triples to what they come to, None for no greatest; a claim on a
-    triple that it does not hold is none.
+    widest leads from triples to what they come to, None for no greatest. A claim on a
+    triple that it does not hold is none: of a way that is not usable, or on taller parts.
     """
     for claim in claims:
         if all_in(widest, claim.lot):
@@ -184,33 +182,18 @@ def _greatest(links):
 def _endless(links):
     """The dict of the triples that come to more than any number.
 
-    These are what hangs on a triple that hangs on itself with something more added on the
-    way round, by a top or by a part beside the one that leads back.
+    A top whose kind adds nothing lies in what the other kind needs, and so do its parts: then
+    nothing is added below it, either. All else that hangs on itself adds more each time round.
     """
     bits = {triple: 1 << at for at, triple in enumerate(links)}
     masks = _masks_below(links, bits)
-    priced = sum([bits[triple] for triple, link in links.items() if link.price > 0])
-    adding = {triple: True for triple in links if masks[triple] & priced}
-    growing = 0
-    for triple, link in links.items():
-        if any([_leads_back(bits[triple], link, masks, adding, lot) for lot in link.lots]):
-            growing = growing | bits[triple]
-    return {triple: True for triple in links if masks[triple] & growing}
-
-
-def _leads_back(bit, link, masks, adding, lot):
-    """Whether a part of a lot leads back to the triple of this bit, and something is added beside it."""
-    for at, part in enumerate(lot):
-        if masks[part] & bit:
-            beside = [*lot[:at], *lot[at + 1:]]
-            if link.price > 0 or any([other in adding for other in beside]):
-                return True
-    return False
+    growing = sum([bits[triple] for triple, link in links.items() if link.price > 0 and masks[triple] & bits[triple]])
+    return {triple: True for triple in links if (masks[triple] | bits[triple]) & growing}
 
 
 def _masks_below(links, bits):
-    """The dict from triples to the masks of all triples that they hang on, themselves among them."""
-    masks = {triple: bits[triple] for triple in links}
+    """The dict from triples to the masks of all triples that they hang on."""
+    masks = {triple: 0 for triple in links}
     changed = True
     while changed:
         changed = False
@@ -218,7 +201,7 @@ def _masks_below(links, bits):
             mask = masks[triple]
             for lot in link.lots:
                 for part in lot:
-                    mask = mask | masks[part]
+                    mask = mask | bits[part] | masks[part]
             if mask != masks[triple]:
                 masks[triple] = mask
                 changed = True

@@ -655,6 +655,8 @@ class JournalTest(unittest.TestCase):
         ]:
             self.stops(["put 0", "put 1 0", "wish 1 1", line, "put 0"], 3)
         self.stops(["undo"], 0)
+        for line in ["redo 0", "redo ", "copy", "Redo", "redo redo", ""]:
+            self.stops(["put 0", "undo", line, "put 0"], 2)
         self.stops(["put 0", "undo", "undo", "put 0"], 2)
         self.stops(["put 0", "undo", "redo", "redo"], 3)
         self.stops(["put 0", "undo", "put 0", "redo"], 3)

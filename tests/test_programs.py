@@ -45,6 +45,7 @@ BAD_MEANINGS = [
     *ODD,
     *[("num", odd) for odd in strange_objects()],
     *[(odd, 1) for odd in strange_objects()],
+    *[(odd,) for odd in strange_objects()],
 ]
 
 
@@ -245,6 +246,7 @@ class ProgramTest(unittest.TestCase):
             ("Back", 0),
             (b"back", 0),
             ("stay", 0),
+            ("stay", 0, (0, ()), (0, ())),
             ("go",),
             ("go", 0),
             ("go", 0, ()),

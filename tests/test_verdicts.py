@@ -233,6 +233,37 @@ class WidesTest(unittest.TestCase):
         self.assertEqual(wides(book), told_wides(book, 10**6))
         self.assertIn(None, wides(book).values())
 
+    def test_rounds_of_several_standings(self):
+        # Kinds 0 and 1 lead to 2 and 3 and back, so each standing hangs on itself by the other one alone.
+        rules = ((0, (), 0, 1), (0, (), 1, 1), (1, (0,), 2, 1), (1, (1,), 3, 1), (2, (2,), 0, 1), (2, (3,), 1, 1))
+        told = wides(Book((0, 1, 1, 1), 5, rules + ((3, (0,), 4, 1),), ()))
+        self.assertEqual((told[(0, 0, 1)], told[(0, 1, 0)]), (1, 1))
+        self.assertEqual([triple for triple, worth in told.items() if worth is None], [(1, 2, 3), (1, 3, 2), (4, 0, 1), (4, 1, 0)])
+        self.assertEqual(told[(3, 4, 4)], 0)
+
+    def test_a_round_of_standings_that_hang_on_later_ones(self):
+        # Each of three ops makes a pair of kinds of the pair that the next one makes; so do leaves.
+        pairs = [(0, 1), (2, 3), (4, 0)]
+        rules = [(op, (), kind, 1) for op in range(3) for kind in pairs[op]]
+        for op in range(3):
+            for source, kind in zip(pairs[(op + 1) % 3], pairs[op]):
+                rules.append((3 + op, (source,), kind, 1))
+        book = Book((0, 0, 0, 1, 1, 1), 5, tuple(rules), ())
+        told = wides(book)
+        endless = []
+        for number, (_, ways) in enumerate(standings(book)):
+            for op in range(3):
+                if ("rule", 6 + 2 * op) in ways and ("rule", 7 + 2 * op) in ways:
+                    endless.extend([(number, *pairs[op]), (number, *pairs[op][::-1])])
+        self.assertEqual(len(endless), 6)
+        self.assertEqual({triple for triple, worth in told.items() if worth is None}, set(endless))
+
+    def test_what_hangs_on_what_has_no_end(self):
+        book = Book((0, 1, 1), 4, CHAIN.rules[:4] + ((2, (0,), 2, 5), (2, (1,), 3, 5)), ())
+        told = wides(book)
+        endless = [triple for triple in told if told[triple] is None]
+        self.assertEqual(endless, [(1, 0, 1), (1, 1, 0), (2, 2, 3), (2, 3, 2)])
+
     def test_both_parts_grow(self):
         rules = ((0, (), 0, 1), (0, (), 1, 1), (1, (0, 0), 0, 1), (1, (1, 1), 1, 1))
         told = wides(Book((0, 2), 2, rules, ()))
@@ -418,6 +449,15 @@ class FailingTest(unittest.TestCase):
         web = self.check(book, 4)
         self.assertEqual(verdict(book)[0], 3)
         self.assertEqual(labels(book, web)[-1], labels(book, web_of_tree(3, [Web(((0, ()),)), Web(((1, ()),))]))[-1])
+
+    def test_the_dearest_of_parts_that_stand_alike(self):
+        # Behind op 2 nothing tells of which leaf a value is made; one of them is dear.
+        for cheap, dear in [(0, 1), (1, 0)]:
+            leaves = tuple((op, (), kind, 10 if op == dear else 1) for op in sorted((cheap, dear)) for kind in range(2))
+            more = ((2, (0,), 0, 1), (2, (1,), 1, 1), (3, (0,), 2, 1), (3, (1,), 2, 11))
+            book = Book((0, 0, 1, 1), 3, leaves + more, ())
+            web = self.check(book, 3)
+            self.assertEqual(web.rows, ((dear, ()), (2, (0,)), (3, (1,))))
 
     def test_no_tree_of_fewer_storeys(self):
         heights = {}
