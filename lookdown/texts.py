@@ -29,7 +29,8 @@ def read_book(text):
     """The Book that a text tells."""
     if not isinstance(text, str):
         raise BadText(0)
-    return Book(*book_parts(text.split("\n")))
+    arities, kinds, rules, moves = book_parts(text.split("\n"))
+    return Book(arities, kinds, rules, moves)
 
 
 def book_parts(lines):

@@ -63,6 +63,32 @@ def bound_names(function):
     return names + [node.id for node in stored]
 
 
+def is_kept(node):
+    """Whether a node is a name, an attribute off a name, a literal, or a list, tuple or dict of these."""
+    if isinstance(node, (ast.List, ast.Tuple)):
+        return all(is_kept(each) for each in node.elts)
+    if isinstance(node, ast.Dict):
+        return all(is_kept(each) for each in [*node.keys, *node.values])
+    if isinstance(node, ast.Attribute):
+        return isinstance(node.value, ast.Name)
+    return isinstance(node, (ast.Name, ast.Constant))
+
+
+def behind_stars(call):
+    """What a call passes from its first star on, or all that it passes if it has a double star."""
+    passed = [*call.args, *[each.value for each in call.keywords]]
+    if all(each.arg is not None for each in call.keywords):
+        while passed and not isinstance(passed[0], ast.Starred):
+            del passed[0]
+    return [each.value if isinstance(each, ast.Starred) else each for each in passed]
+
+
+def rows_of_wrong_stars(tree):
+    """The rows of the calls in which something has to be kept by a name ahead of a star."""
+    calls = [node for node in ast.walk(tree) if isinstance(node, ast.Call)]
+    return [call.lineno for call in calls if not all(is_kept(each) for each in behind_stars(call))]
+
+
 class FormTest(unittest.TestCase):
     def test_the_folder_holds_files_of_python_alone(self):
         for file in FOLDER.iterdir():
@@ -200,6 +226,50 @@ class FormTest(unittest.TestCase):
             for node in ast.walk(tree):
                 if isinstance(node, ast.Call) and isinstance(node.func, ast.Name) and node.func.id in counts:
                     self.assertEqual((len(node.args), node.keywords), (counts[node.func.id], []), name)
+
+    def test_what_stands_behind_a_star_in_a_call(self):
+        for name, tree in trees():
+            self.assertEqual(rows_of_wrong_stars(tree), [], name)
+
+    def test_wrong_stars_are_seen(self):
+        wrong = [
+            "Book(*book_parts(lines))",
+            "Book(*book_parts(text.split('\\n')))",
+            "f(*xs, g(k))",
+            "f(*xs, many=g(k))",
+            "f(*xs, *g(k))",
+            "f(*box.told())",
+            "f(*box.inner.rows)",
+            "f(*xs[1:])",
+            "f(*xs + ys)",
+            "f(*[x for x in xs])",
+            "f(*[g(k)])",
+            "f(*(k, (g(k),)))",
+            "f(*[*xs])",
+            "f(*{'a': g(k)})",
+            "f(*{**d})",
+            "f(**g(k))",
+            "f(g(k), **d)",
+            "g([h(*f(k))])",
+            "box.put(*f(k))",
+        ]
+        for text in wrong:
+            self.assertEqual(rows_of_wrong_stars(ast.parse("\n" + text)), [2], text)
+        right = [
+            "f(*xs)",
+            "f(k, *xs)",
+            "f(*xs, n, sep=n)",
+            "f(g(k), *xs)",
+            "f(*box.rows)",
+            "f(*'ab')",
+            "f(*[k, 1, (box.n, None)], {'a': k})",
+            "f(**d)",
+            "f(k, **box.d)",
+            "f([*g(k)])",
+            "f(g(k), many=h(k))",
+        ]
+        for text in right:
+            self.assertEqual(rows_of_wrong_stars(ast.parse(text)), [], text)
 
 
 if __name__ == "__main__":
